@@ -1,0 +1,1 @@
+"""Planwell: a language for plans, solved in exact fractions."""
