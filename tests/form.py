@@ -37,6 +37,8 @@ BAD_WORDS = re.compile(
     r"|NamedTuple|TypedDict|TYPE_CHECKING|abstractmethod)\b|dataclass|overload|contextmanager"
 )
 BAD_HANDLERS = set("Exception TypeError".split())
+# A term is laid with any world that has these two.
+WORLD_METHODS = ["entry", "members"]
 
 
 def name_faults(name):
@@ -259,7 +261,7 @@ def walked_faults(tree):
 
 
 def method_faults(tree, packed):
-    own = []
+    own = list(WORLD_METHODS)
     for source in packed.values():
         for node in ast.walk(ast.parse(source)):
             if isinstance(node, ast.ClassDef):
