@@ -37,8 +37,6 @@ BAD_WORDS = re.compile(
     r"|NamedTuple|TypedDict|TYPE_CHECKING|abstractmethod)\b|dataclass|overload|contextmanager"
 )
 BAD_HANDLERS = set("Exception TypeError".split())
-# A term is laid with any world that has these two.
-WORLD_METHODS = ["entry", "members"]
 
 
 def name_faults(name):
@@ -261,7 +259,7 @@ def walked_faults(tree):
 
 
 def method_faults(tree, packed):
-    own = list(WORLD_METHODS)
+    own = []
     for source in packed.values():
         for node in ast.walk(ast.parse(source)):
             if isinstance(node, ast.ClassDef):
