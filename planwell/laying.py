@@ -2,12 +2,11 @@
 
 from planwell.errors import BadGoal, TooMany
 from planwell.fractions import NOUGHT, minus
-from planwell.sums import added, scaled
+from planwell.sums import added, negated
 from planwell.terms import Entry
 from planwell.world import World, keys_over
 
 MOST_ROWS = 40
-MINUS_ONE = (-1, 1)
 
 
 def laid_out(statements):
@@ -44,7 +43,7 @@ def laid_row(statement, keys, world):
     binders = statement[2]
     left = all_put(statement[3], binders, keys).laid(world)
     right = all_put(statement[5], binders, keys).laid(world)
-    difference = added(left, scaled(right, MINUS_ONE))
+    difference = added(left, negated(right))
     return (label(statement[1], keys), difference[1], statement[4], minus(NOUGHT, difference[0]))
 
 

@@ -30,6 +30,10 @@ def scaled(one, part):
     return (times(one[0], part), tuple([(number, times(held, part)) for number, held in one[1]]))
 
 
+def negated(one):
+    return scaled(one, (-1, 1))
+
+
 def multiplied(one, other):
     if one[1] and other[1]:
         raise NotLinear("both sums that are multiplied have unknowns")

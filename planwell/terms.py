@@ -1,9 +1,7 @@
 """Terms: each is told, shown, laid and so on by the class that it is of."""
 
-from planwell.fractions import NOUGHT, shown_fraction, sign, times
-from planwell.sums import added, multiplied, plain, scaled
-
-MINUS_ONE = (-1, 1)
+from planwell.fractions import NOUGHT, minus, shown_fraction, sign
+from planwell.sums import added, multiplied, negated, plain
 
 
 class Term:
@@ -43,7 +41,7 @@ class Number(Term):
     def shown(self):
         # No text tells a number below nought, so it is shown as the negative that it is read to.
         if sign(self.worth) < 0:
-            above = shown_fraction(times(self.worth, MINUS_ONE))
+            above = shown_fraction(minus(NOUGHT, self.worth))
             return f"(- {above})"
         return shown_fraction(self.worth)
 
@@ -97,7 +95,7 @@ class Negative(Term):
         return Negative(self.one.put(binder, member))
 
     def laid(self, world):
-        return scaled(self.one.laid(world), MINUS_ONE)
+        return negated(self.one.laid(world))
 
 
 class Joined(Term):
@@ -140,7 +138,7 @@ class Minus(Joined):
         return Minus(self.one.put(binder, member), self.other.put(binder, member))
 
     def laid(self, world):
-        return added(self.one.laid(world), scaled(self.other.laid(world), MINUS_ONE))
+        return added(self.one.laid(world), negated(self.other.laid(world)))
 
 
 class Times(Joined):

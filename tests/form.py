@@ -37,6 +37,8 @@ BAD_WORDS = re.compile(
     r"|NamedTuple|TypedDict|TYPE_CHECKING|abstractmethod)\b|dataclass|overload|contextmanager"
 )
 BAD_HANDLERS = set("Exception TypeError".split())
+OWN_VALUES = set("count index title find get join lower upper split strip copy add".split())
+PYTHONS_NAMES = set(sum([dir(kind) for kind in (str, int, list, tuple, dict, set, bytes)], [])) | {"args"}
 
 
 def name_faults(name):
@@ -258,12 +260,57 @@ def walked_faults(tree):
     return [("L23", node.lineno) for node in calls if node.func.id in WALKED and node not in spots]
 
 
-def method_faults(tree, packed):
+def own_methods(packed):
     own = []
     for source in packed.values():
         for node in ast.walk(ast.parse(source)):
             if isinstance(node, ast.ClassDef):
                 own = own + [part.name for part in node.body if isinstance(part, ast.FunctionDef)]
+    return own
+
+
+def value_faults(tree, packed):
+    methods = own_methods(packed)
+    found = []
+    for node in ast.walk(tree):
+        if isinstance(node, ast.Attribute) and isinstance(node.ctx, ast.Store):
+            if node.attr in methods:
+                found.append(("L18", node.lineno))
+            if node.attr in PYTHONS_NAMES and node.attr not in OWN_VALUES:
+                found.append(("L26", node.lineno))
+    return found
+
+
+def set_faults(tree):
+    fine = []
+    for node in ast.walk(tree):
+        if isinstance(node, ast.Call) and isinstance(node.func, ast.Name) and node.func.id in ("len", "sorted"):
+            fine = fine + node.args
+        if isinstance(node, ast.Compare):
+            fine = fine + [node.left] + node.comparators
+        if isinstance(node, ast.BinOp):
+            fine = fine + [node.left, node.right]
+    calls = [node for node in ast.walk(tree) if isinstance(node, ast.Call) and isinstance(node.func, ast.Name)]
+    made = [node for node in calls if node.func.id in ("set", "frozenset")]
+    made = made + [node for node in ast.walk(tree) if isinstance(node, ast.Set)]
+    return [("L24", node.lineno) for node in made if node not in fine]
+
+
+def top_change_faults(tree):
+    kept = [node for node in tree.body if isinstance(node, ast.Assign)]
+    names = [node.targets[0].id for node in kept if isinstance(node.value, (ast.List, ast.Dict))]
+    used = []
+    for node in ast.walk(tree):
+        if isinstance(node, (ast.Subscript, ast.Attribute)) and isinstance(node.value, ast.Name):
+            if node.value.id in names and isinstance(node.ctx, ast.Store):
+                used.append(node)
+        if isinstance(node, ast.Return) and isinstance(node.value, ast.Name) and node.value.id in names:
+            used.append(node)
+    return [("L15", node.lineno) for node in used]
+
+
+def method_faults(tree, packed):
+    own = own_methods(packed)
     called = [node.func for node in ast.walk(tree) if isinstance(node, ast.Call)]
     methods = [func for func in called if isinstance(func, ast.Attribute)]
     return [("L25", func.lineno) for func in methods if func.attr not in FREE_METHODS and func.attr not in own]
@@ -274,4 +321,5 @@ def faults(module, packed):
     tree = ast.parse(source)
     found = sign_faults(source) + top_faults(tree) + import_faults(tree, packed) + ring_faults(module, packed)
     found = found + node_faults(tree) + expression_faults(tree) + local_faults(tree) + walked_faults(tree)
+    found = found + value_faults(tree, packed) + set_faults(tree) + top_change_faults(tree)
     return sorted(set(found + method_faults(tree, packed)))

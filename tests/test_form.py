@@ -55,7 +55,11 @@ class Reader(unittest.TestCase):
             ("L17", "# the type\n"), ("L17", "def f(a):\n    return a.mro\n"),
             ("L19", "def f():\n    try:\n        f()\n    except:\n        pass\n"), ("L20", "def f(a):\n    return a is f\n"),
             ("L21", "def f(a: int):\n    pass\n"), ("L23", "def f(a):\n    b = zip(a, a)\n"),
-            ("L25", "def f(a):\n    return a.title()\n"), ("L27", "A = '%'\n"), ("L27", "def f(a):\n    return 2 ** a\n"),
+            ("L15", "A = [1]\n\n\ndef f():\n    A[0] = 2\n"), ("L15", "A = {}\n\n\ndef f():\n    return A\n"),
+            ("L18", "class A:\n    def b(self):\n        self.b = 1\n"), ("L24", "def f(a):\n    b = set(a)\n"),
+            ("L24", "def f(a):\n    return {1, a}\n"), ("L26", "class A:\n    def b(self):\n        self.keys = 1\n"),
+            ("L25", "def f(a):\n    return a.title()\n"),
+            ("L27", "A = '%'\n"), ("L27", "def f(a):\n    return 2 ** a\n"),
         ]:
             self.assertIn(rule, self.rules(source), source)
 

@@ -277,7 +277,8 @@ class NoLines(Sheets):
             "fix buy = 3 = 3", "fix = 3", "fix bake( = 3", "fix bake(bread = 3", "fix bake(a, b, c) = 3", "fix buy = 1/0",
             "free", "free buy buy", "free buy = 3", "free bake(", "free bake()", "free bake(a, b, c)", "free 3", "Answer",
             "ANSWER", "answer%", "put have = 50%", "fix buy = 1.5", "answer\t", "answer\r\n", "abcdefghi", "drop abcdefghi",
-            "= 3", "(", "put have < 3", "an swer", "least", "most buy", "set a: b.", "<", "answer;", "\u00e9",
+            "nope have = 3", "take flour(bread) = 3", "answer have = 3", "rows have = 3", "fixed buy = 3", "nope buy", "= 3", "(",
+            "put have < 3", "an swer", "least", "most buy", "set a: b.", "<", "answer;", "\u00e9",
             "answer" + " " * 6000,
         ]:
             self.stays(sheet, line, ["no line"])
