@@ -28,11 +28,12 @@ def solved(plan):
     desk = first_desk(plan)
     outcome = desk.solve()
     if outcome[0] != "endless":
-        return Search(plan, desk, outcome).run(False)
+        return Search(plan, desk, outcome).run()
     # A whole unknown has both ends, so the way stands still there: it leads on from any values that meet the plan.
+    # Without pairs in the goal all worths are alike, and the first such values end the search.
     aimless = (plan[0], plan[1], (plan[2][0], (), plan[2][2]))
     desk = first_desk(aimless)
-    found = Search(aimless, desk, desk.solve()).run(True)
+    found = Search(aimless, desk, desk.solve()).run()
     if found[0] == "none":
         return found
     return ("endless", found[1], outcome[2])
@@ -50,8 +51,8 @@ class Search:
         self.least = None
         self.add_node(plan, outcome)
 
-    def run(self, first_will_do):
-        while self.waiting and not (first_will_do and self.best is not None):
+    def run(self):
+        while self.waiting:
             self.part_node(self.waiting.pop())
         if self.best is None:
             return ("none", self.tree())

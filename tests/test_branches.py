@@ -140,7 +140,7 @@ class Trees(Asking):
         plan = ((unknown(0, 2),), (("r", (), ">=", whole(1)),), ("least", (), whole(0)))
         leaf = ("none", (whole(1),))
         self.assertIs(shows_none(plan, leaf), True)
-        for k, fine in [(-1, False), (0, True), (1, True), (2, False), (3, False)]:
+        for k, fine in [(-1, False), (0, True), (1, True), (2, False), (3, False), (whole(1), False), ((1, 2), False)]:
             self.assertIs(shows_none(plan, ("split", 0, k, leaf, leaf)), fine)
             self.assertIs(shows_floor(plan, ("split", 0, k, leaf, leaf), whole(0)), fine)
         # The ends are those of the plan narrowed so far.
@@ -150,6 +150,13 @@ class Trees(Asking):
             self.assertIs(shows_none(plan, ("split", 0, k, left, leaf)), k == 1 and one == 0)
             self.assertIs(shows_none(plan, ("split", 0, k, leaf, right)), k == 0 and other == 1)
 
+    def test_whole_unknowns_without_ends(self):
+        leaf = ("none", (whole(1),))
+        for low, high, fine in [(None, None, [-9, 0, 9]), (0, None, [0, 9]), (None, 0, [-9])]:
+            plan = ((unknown(low, high),), (("r", (), ">=", whole(1)),), ("least", (), whole(0)))
+            for k in [-9, 0, 9]:
+                self.assertIs(shows_none(plan, ("split", 0, k, leaf, leaf)), k in fine)
+
     def test_the_number_other(self):
         for number in [-2, -1, 1, 2, 3, 40]:
             self.assertIs(shows_floor(SPLIT_PLAN, swapped(TREE, 1, number), whole(2)), False, number)
@@ -157,7 +164,7 @@ class Trees(Asking):
         # Where both leaves would show it, a split at an unknown that isn't whole or isn't there still shows nothing.
         plan = ((unknown(0, 2), unknown(0, 2, False)), (("r", (), ">=", whole(1)),), ("least", (), whole(0)))
         leaf = ("none", (whole(1),))
-        for number, fine in [(0, True), (1, False), (2, False), (-1, False), (-2, False)]:
+        for number, fine in [(0, True), (1, False), (2, False), (-1, False), (-2, False), (whole(0), False)]:
             self.assertIs(shows_none(plan, ("split", number, 1, leaf, leaf)), fine)
             self.assertIs(shows_floor(plan, ("split", number, 1, leaf, leaf), whole(0)), fine)
 
