@@ -1,5 +1,9 @@
 """Promises 13 to 16: statements laid out as a plan."""
 
+import itertools
+import random
+from fractions import Fraction
+
 from planwell.errors import BadEnds, BadGoal, BadName, BadTable, BadText, NotLinear, TooMany
 from planwell.laying import label, laid_out
 from planwell.reading import read, told
@@ -218,3 +222,90 @@ class Refused(Asking):
 
     def test_read_refuses_first(self):
         self.assert_refused(BadText, plan_of, "least x")
+
+
+TABLES = {
+    ("k", ()): Fraction(3), ("nil", ()): Fraction(0), ("t", ("mon",)): Fraction(-2), ("t", ("tue",)): Fraction(1, 2),
+    ("m", ("mon", "mon")): Fraction(5), ("m", ("tue", "mon")): Fraction(-1, 3),
+}
+GROUPS = {"days": ("mon", "tue"), "one": ("mon",)}
+UNKNOWNS = [("x", ()), ("y", ("mon",)), ("y", ("tue",)), ("z", ("mon", "mon")), ("z", ("tue", "mon"))]
+HEAD = SETS + """table k: 3. table nil: 0. table t over days: mon -2, tue 1/2. table m over days, one: mon mon 5, tue mon
+    -1/3. unknown x. unknown y over days. unknown z over days, one. """
+
+
+def come_to(term, bound, values):
+    """What a told term comes to, by the test's own reckoning: bound are the binders' members, values the unknowns'."""
+    kind = term[0]
+    if kind == "number":
+        return Fraction(term[1][0], term[1][1])
+    if kind == "entry":
+        keys = tuple(bound.get(key, key) for key in term[2])
+        return TABLES[(term[1], keys)] if (term[1], keys) in TABLES else values[UNKNOWNS.index((term[1], keys))]
+    if kind == "sum":
+        return sum(come_to(term[3], {**bound, term[1]: member}, values) for member in GROUPS[term[2]])
+    parts = [come_to(part, bound, values) for part in term[1:]]
+    if kind == "negative":
+        return -parts[0]
+    return {"plus": parts[0] + parts[1], "minus": parts[0] - parts[1], "times": parts[0] * parts[1]}[kind]
+
+
+class Terms:
+    """Texts of terms by chance, but the same ones each time."""
+
+    def __init__(self, seed):
+        self.chance = random.Random(seed)
+
+    def key(self, group, binders):
+        return self.chance.choice(list(GROUPS[group]) + [name for name, held in binders if held in ("one", group)])
+
+    def text(self, depth, binders):
+        pick = self.chance.choice(["number", "table", "unknown", "unknown"] + ["mark", "mark", "minus", "sum"] * (depth > 0))
+        if pick == "number":
+            return self.chance.choice(["0", "1", "7/2", "3"])
+        if pick == "table":
+            day = self.key("days", binders)
+            return self.chance.choice(["k", "nil", f"t({day})", f"m({day}, {self.key('one', binders)})"])
+        if pick == "unknown":
+            day = self.key("days", binders)
+            return self.chance.choice(["x", f"y({day})", f"z({day}, {self.key('one', binders)})"])
+        if pick == "minus":
+            return f"- {self.text(depth - 1, binders)}"
+        if pick == "sum" and len(binders) < 4:
+            name = "abcde"[len(binders)]
+            group = self.chance.choice(["days", "one"])
+            return f"sum({name} in {group}, {self.text(depth - 1, binders + [(name, group)])})"
+        mark = self.chance.choice("+-*")
+        return f"({self.text(depth - 1, binders)} {mark} {self.text(depth - 1, binders)})"
+
+
+class Reckoned(Asking):
+    def test_rows_come_to_what_their_terms_come_to(self):
+        terms = Terms(5)
+        laid = 0
+        for turn in range(400):
+            binders = [("a", "days"), ("b", "one")][:turn % 3]
+            each = " each " + ", ".join(f"{name} in {group}" for name, group in binders) if binders else ""
+            text = f"{HEAD} row r{each}: {terms.text(3, binders)} <= {terms.text(2, binders)}. least {terms.text(2, [])}."
+            try:
+                plan = plan_of(text)
+            except NotLinear:
+                continue
+            laid += 1
+            self.check(plan, told(read(text)), binders, [Fraction(terms.chance.randint(-9, 9), 7) for unknown in UNKNOWNS])
+        self.assertGreater(laid, 150)
+
+    def check(self, plan, statements, binders, values):
+        kind, name, held, left, sign, right = statements[-2]
+        members = list(itertools.product(*[GROUPS[group] for binder, group in binders]))
+        self.assertEqual([row[0] for row in plan[1]], [label("r", keys) for keys in members])
+        for row, keys in zip(plan[1], members):
+            bound = {binder: key for (binder, group), key in zip(binders, keys)}
+            gap = come_to(left, bound, values) - come_to(right, bound, values)
+            self.assertEqual(self.at(row[1], values) - Fraction(row[3][0], row[3][1]), gap)
+        self.assertEqual(
+            self.at(plan[2][1], values) + Fraction(plan[2][2][0], plan[2][2][1]), come_to(statements[-1][2], {}, values),
+        )
+
+    def at(self, pairs, values):
+        return sum((Fraction(part[0], part[1]) * values[number] for number, part in pairs), Fraction(0))

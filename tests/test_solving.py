@@ -1,5 +1,7 @@
 """Promise 20: plans loosely solved, each answer held against sums of the test's own."""
 
+from unittest import mock
+
 from planwell.solving import loose
 from tests.asking import Asking
 from tests.grounds import Maker, is_loose_answer, worth_at
@@ -146,6 +148,16 @@ class Loose(Asking):
             kinds.append(self.kind(plan[0], plan[1], plan[2]))
         for kind in ["best", "none", "endless"]:
             self.assertGreater(kinds.count(kind), 50)
+
+    def test_without_haste(self):
+        # The careful steps, which are taken behind many hasty ones.
+        maker = Maker(4)
+        with mock.patch("planwell.desk.HASTY_STEPS", 0):
+            for turn in range(200):
+                plan = maker.plan(1 + turn % 8, turn // 7 % 9)
+                self.kind(plan[0], plan[1], plan[2])
+                rows = [(label, held, mark, whole(0)) for label, held, mark, bound in plan[1]]
+                self.kind(plan[0], rows, plan[2])
 
     def test_fractions_of_nine_figures(self):
         maker = Maker(2, figures=9)
